@@ -1,0 +1,1 @@
+"""Words over a small field, weighed by rank."""

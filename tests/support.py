@@ -1,0 +1,155 @@
+"""What the tests share: fields, wrong values, and slow ways to the same results."""
+
+import copy
+import itertools
+import random
+import unittest
+
+from rankwords.fields import Field
+
+KINDS = (
+    (2, (0, 1)), (2, (1, 1)), (2, (1, 1, 1)), (2, (1, 1, 0, 1)),
+    (2, (1, 1, 0, 0, 1)), (2, (1, 1, 1, 1, 1)),
+    (3, (0, 1)), (3, (1, 1)), (3, (1, 0, 1)), (3, (1, 2, 0, 1)),
+)
+FIELDS = tuple(Field(prime, modulus) for prime, modulus in KINDS)
+TWO = Field(2, (1, 1))
+FOUR = Field(2, (1, 1, 1))
+EIGHT = Field(2, (1, 1, 0, 1))
+SIXTEEN = Field(2, (1, 1, 0, 0, 1))
+NINE = Field(3, (1, 0, 1))
+TWENTY_SEVEN = Field(3, (1, 2, 0, 1))
+
+NO_INTEGERS = (True, False, 1.0, "1", b"1", None, (1,), [1], {1: 1}, 1j)
+NO_SEQUENCES = ("12", b"\x01", {1, 2}, {1: 2}, 5, None, range(2), True, 1.5)
+
+
+def as_lists(value):
+    """The value with each tuple in it turned into a list."""
+    if isinstance(value, (list, tuple)):
+        return [as_lists(item) for item in value]
+    return value
+
+
+def made_of_tuples(value):
+    """Whether no list stands anywhere in the value."""
+    if isinstance(value, tuple):
+        return all(made_of_tuples(item) for item in value)
+    return not isinstance(value, list)
+
+
+def rng(seed):
+    return random.Random(seed)
+
+
+def random_word(chance, field, columns):
+    return tuple(chance.randrange(field.size) for _ in range(columns))
+
+
+def random_poly(chance, field, most):
+    """A poly of 0 to most terms."""
+    terms = chance.randrange(most + 1)
+    if terms == 0:
+        return ()
+    return random_word(chance, field, terms - 1) + (chance.randrange(1, field.size),)
+
+
+def random_points(chance, field, columns):
+    """Things of which none is a sum of multiples of those before it."""
+    points, spanned = [], {0}
+    while len(points) < columns:
+        point = chance.randrange(field.size)
+        if point not in spanned:
+            points.append(point)
+            spanned = spanned_things(field, points)
+    return tuple(points)
+
+
+def all_words(field, columns):
+    return itertools.product(range(field.size), repeat=columns)
+
+
+def all_polys(field, most):
+    """All polys of at most so many terms, () first."""
+    yield ()
+    for terms in range(1, most + 1):
+        for poly in all_words(field, terms):
+            if poly[-1]:
+                yield poly
+
+
+def spanned_rows(prime, width, rows):
+    """The set of all sums of multiples of the rows."""
+    found = {(0,) * width}
+    for row in rows:
+        found = {tuple((a + c * b) % prime for a, b in zip(old, row))
+                 for old in found for c in range(prime)}
+    return found
+
+
+def spanned_things(field, things):
+    """The set of all sums of multiples of the things."""
+    found = {0}
+    for thing in things:
+        sums = set()
+        for old in found:
+            for _ in range(field.prime):
+                sums.add(old)
+                old = field.plus(old, thing)
+        found = sums
+    return found
+
+
+def slow_rank(field, word):
+    """The rank of a word, from the number of things that its things span."""
+    many, rank = len(spanned_things(field, word)), 0
+    while field.prime ** rank < many:
+        rank += 1
+    assert field.prime ** rank == many
+    return rank
+
+
+def slow_distance(field, one, other):
+    return slow_rank(field, [field.minus(a, b) for a, b in zip(one, other)])
+
+
+def slow_power(field, thing, exponent):
+    power = 1
+    for _ in range(exponent):
+        power = field.times(power, thing)
+    return power
+
+
+def slow_value(field, poly, thing):
+    """The value of a poly, from powers instead of steps."""
+    value = 0
+    for term in poly:
+        value = field.plus(value, field.times(term, thing))
+        thing = slow_power(field, thing, field.prime)
+    return value
+
+
+def slow_sum(field, one, other):
+    """The sum of two polys of any number of terms."""
+    terms = [field.plus(a, b) for a, b in itertools.zip_longest(one, other, fillvalue=0)]
+    while terms and terms[-1] == 0:
+        terms.pop()
+    return tuple(terms)
+
+
+class Case(unittest.TestCase):
+    def refuses(self, error, told, function, *args, **more):
+        """The call raises just this class of error, with just these attributes."""
+        with self.assertRaises(error) as caught:
+            function(*args, **more)
+        self.assertIs(type(caught.exception), error)
+        self.assertEqual(vars(caught.exception), told)
+
+    def takes_lists(self, function, *args):
+        """Lists do as tuples do, nothing passed in is changed, no list is returned."""
+        listed = [as_lists(arg) for arg in args]
+        kept = copy.deepcopy(listed)
+        result = function(*listed)
+        self.assertEqual(listed, kept)
+        self.assertEqual(result, function(*args))
+        self.assertTrue(made_of_tuples(result), result)

@@ -1,0 +1,84 @@
+"""Points [0.1] to [0.4] and [0.7], for what all modules have in common."""
+
+import copy
+import unittest
+
+from rankwords import divisions, errors, fields, polys, spaces, tables
+from tests.support import Case, FOUR, NINE, TWENTY_SEVEN
+
+BIG = 10 ** 60 - 1
+
+
+def wrong_calls():
+    """An error, its attributes, and a call in which every argument from some place on is wrong."""
+    bad_rows = [[1, 0], [2, 0]]
+    yield errors.BadThing, {"index": 3}, fields.check_thing, FOUR, 4, 3
+    yield errors.BadThing, {"index": 1}, fields.check_things, FOUR, [0, -1, 9], 3
+    yield errors.BadColumns, {}, fields.check_columns, FOUR, 3
+    yield errors.BadRow, {"index": 1}, spaces.echelon, 2, 2, bad_rows
+    yield errors.BadRow, {"index": 1}, spaces.row_rank, 2, 2, bad_rows
+    yield errors.BadRow, {"index": 1}, spaces.contrary, 2, 2, bad_rows
+    yield errors.BadRow, {"index": 1}, spaces.sum_spaces, 2, 2, bad_rows, [[3, 3]]
+    yield errors.BadRow, {"index": 1}, spaces.meet_spaces, 2, 2, bad_rows, [[3, 3]]
+    yield errors.BadRow, {"index": 1}, spaces.holds_row, 2, 2, bad_rows, [3, 3]
+    yield errors.BadRow, {"index": 1}, spaces.rows_of_space, 2, 2, bad_rows
+    yield errors.BadThing, {"index": 2}, spaces.things_space, FOUR, [1, 1, 4, 5]
+    yield errors.BadThing, {"index": 2}, spaces.space_things, FOUR, [1, 1, 4, 5]
+    yield errors.BadThing, {"index": 2}, spaces.holds_thing, FOUR, [1, 1, 4, 5], 7
+    yield errors.BadWord, {"index": 1}, tables.check_word, FOUR, [3, 4]
+    yield errors.BadTable, {}, tables.word_of_table, FOUR, [[1], [1, 0]]
+    yield errors.Unlike, {}, tables.word_sum, FOUR, [1], [1, 2]
+    yield errors.Unlike, {}, tables.word_less, FOUR, [1], [1, 2]
+    yield errors.Unlike, {}, tables.rank_distance, FOUR, [1], [1, 2]
+    yield errors.BadPoly, {"index": 2}, polys.check_poly, FOUR, [1, 2, 0]
+    yield errors.BadPoly, {"index": 2}, polys.value_at, FOUR, [1, 2, 0], 9
+    yield errors.BadPoly, {"index": 2}, polys.values_at, FOUR, [1, 2, 0], [9]
+    yield errors.BadPoly, {"index": 2}, polys.zeros_of, FOUR, [1, 2, 0]
+    yield errors.BadPoly, {"index": 2}, polys.reduced_poly, FOUR, [1, 2, 0]
+    for function in (polys.poly_sum, polys.poly_less, polys.put_into, divisions.divided_within,
+                     divisions.divided_about, divisions.common_about, divisions.common_parts,
+                     divisions.least_about):
+        yield errors.BadPoly, {"index": 2}, function, FOUR, [1, 2, 0], [0]
+        yield errors.BadPoly, {"index": 0}, function, FOUR, [1, 2, 1], [0]
+
+
+class RefusalsTest(Case):
+    def test_first_wrong_argument_and_nothing_changed(self):
+        for error, told, function, *args in wrong_calls():
+            kept = copy.deepcopy(args)
+            self.refuses(error, told, function, *args)
+            self.assertEqual(args, kept)
+
+    def test_bools_are_no_integers(self):
+        for value in (True, False):
+            self.refuses(errors.BadField, {"what": "prime"}, fields.Field, value, (1, 1))
+            self.refuses(errors.BadField, {"what": "modulus"}, fields.Field, 2, (value, 1))
+            self.refuses(errors.BadThing, {"index": 0}, fields.check_thing, FOUR, value)
+            self.refuses(errors.BadColumns, {}, fields.check_columns, FOUR, value)
+            self.refuses(errors.BadRow, {"index": 0}, spaces.echelon, 2, 1, [(value,)])
+            self.refuses(errors.BadWord, {"index": 0}, tables.check_word, FOUR, (value,))
+            self.refuses(errors.BadTable, {}, tables.word_of_table, FOUR, ((value,), (1,)))
+            self.refuses(errors.BadPoly, {"index": 0}, polys.check_poly, FOUR, (value, 1))
+
+    def test_integers_of_60_figures(self):
+        for number in (BIG, -BIG):
+            self.refuses(errors.BadField, {"what": "prime"}, fields.Field, number, (1, 1))
+            self.refuses(errors.BadField, {"what": "modulus"}, fields.Field, 3, (number, 1))
+            self.refuses(errors.BadThing, {"index": 0}, fields.check_thing, FOUR, number)
+            self.refuses(errors.BadColumns, {}, fields.check_columns, FOUR, number)
+            self.refuses(errors.BadRow, {"index": 0}, spaces.echelon, 3, 1, [(number,)])
+            self.refuses(errors.BadWord, {"index": 0}, tables.check_word, NINE, (number,))
+            self.refuses(errors.BadPoly, {"index": 0}, polys.check_poly, NINE, (number, 1))
+
+    def test_objects_stay_as_they_are(self):
+        before = copy.deepcopy(vars(TWENTY_SEVEN))
+        self.refuses(errors.ZeroThing, {}, TWENTY_SEVEN.over, 5, 0)
+        TWENTY_SEVEN.digits_of(5)
+        TWENTY_SEVEN.stepped(5, -7)
+        polys.put_into(TWENTY_SEVEN, (1, 2), (3, 4))
+        spaces.things_space(TWENTY_SEVEN, (5, 6))
+        self.assertEqual(vars(TWENTY_SEVEN), before)
+
+
+if __name__ == "__main__":
+    unittest.main()

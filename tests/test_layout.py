@@ -1,0 +1,78 @@
+"""The section "The interface": names, parameters, and where they are defined."""
+
+import importlib
+import inspect
+import unittest
+
+FUNCTIONS = {
+    "counting": "power_of(base, exponent); space_count(prime, whole, part); "
+                "table_count(prime, tall, wide, rank)",
+    "fields": "check_thing(field, thing, index=0); check_things(field, things, most); "
+              "check_columns(field, columns)",
+    "spaces": "echelon(prime, width, rows); row_rank(prime, width, rows); "
+              "contrary(prime, width, rows); sum_spaces(prime, width, one, other); "
+              "meet_spaces(prime, width, one, other); holds_row(prime, width, rows, row); "
+              "rows_of_space(prime, width, rows); unit_row(width, place); "
+              "all_spaces(prime, width, dimension); things_space(field, things); "
+              "space_things(field, things); holds_thing(field, things, thing)",
+    "tables": "check_word(field, word, columns=None); table_of(field, word); "
+              "word_of_table(field, table); digits_of_word(field, word); "
+              "word_of_digits(field, digits); word_sum(field, one, other); "
+              "word_less(field, one, other); scaled_word(field, thing, word); "
+              "stepped_word(field, word, times); rank_of(field, word); "
+              "rank_distance(field, one, other); rows_space(field, word); "
+              "times_table(field, word, table)",
+    "polys": "check_poly(field, poly, most=16); poly_sum(field, one, other); "
+             "poly_less(field, one, other); put_into(field, outer, inner); "
+             "reduced_poly(field, poly); value_at(field, poly, thing); "
+             "values_at(field, poly, things); zeros_of(field, poly)",
+    "divisions": "divided_within(field, poly, divisor); divided_about(field, poly, divisor); "
+                 "common_about(field, one, other); least_about(field, one, other); "
+                 "common_parts(field, one, other)",
+}
+
+CLASSES = {
+    ("fields", "Field(prime, modulus)"):
+        "plus(one, other); minus(one, other); negative(one); times(one, other); inverse(one); "
+        "over(one, other); multiple(number, thing); stepped(thing, times); digits_of(thing); "
+        "thing_of(digits)",
+}
+
+
+def parts_of(text):
+    """Couples of a name and a text of parameters."""
+    return [part.rstrip(")").split("(") for part in text.split("; ")] if text else []
+
+
+def parameters(function):
+    return str(inspect.signature(function))[1:-1]
+
+
+class LayoutTest(unittest.TestCase):
+    def test_functions(self):
+        for name, text in FUNCTIONS.items():
+            module = importlib.import_module("rankwords." + name)
+            for function, told in parts_of(text):
+                found = getattr(module, function)
+                self.assertTrue(inspect.isfunction(found), function)
+                self.assertEqual(found.__module__, module.__name__, function)
+                self.assertEqual(parameters(found), told, function)
+
+    def test_classes(self):
+        for (name, text), methods in CLASSES.items():
+            module = importlib.import_module("rankwords." + name)
+            (word, told), = parts_of(text)
+            found = getattr(module, word)
+            self.assertTrue(inspect.isclass(found), word)
+            self.assertEqual(found.__module__, module.__name__, word)
+            self.assertEqual(parameters(found), told, word)
+            self.assertIn("__eq__", vars(found), word)
+            for method, also in parts_of(methods):
+                inside = vars(found)[method]
+                self.assertTrue(inspect.isfunction(inside), method)
+                wanted = "self, " + also if also else "self"
+                self.assertEqual(parameters(inside), wanted, method)
+
+
+if __name__ == "__main__":
+    unittest.main()
