@@ -46,7 +46,7 @@ def basis_of(prime, rows):
         row = _cleared(prime, basis, row)
         lead = _leading_place(row)
         if lead is not None:
-            # A digit of 2 or 3 that is not 0 is its own inverse.
+            # Modulo 2 and modulo 3 a digit that is not 0 is its own inverse.
             row = tuple([row[lead] * digit % prime for digit in row])
             basis = [(place, _cleared(prime, [(lead, row)], other)) for place, other in basis]
             basis.append((lead, row))

@@ -3,7 +3,8 @@
 import copy
 import unittest
 
-from rankwords import divisions, errors, fields, polys, spaces, tables
+from rankwords import (bounds, closed, divisions, errors, fields, formulas, lots, maps, polylots,
+                       polys, spacepolys, spaces, tables)
 from tests.support import Case, FOUR, NINE, TWENTY_SEVEN
 
 BIG = 10 ** 60 - 1
@@ -40,6 +41,39 @@ def wrong_calls():
                      divisions.least_about):
         yield errors.BadPoly, {"index": 2}, function, FOUR, [1, 2, 0], [0]
         yield errors.BadPoly, {"index": 0}, function, FOUR, [1, 2, 1], [0]
+    yield from wrong_calls_with_lots()
+
+
+def wrong_calls_with_lots():
+    lot = lots.Lot(FOUR, 2, [[0, 0], [1, 2], [2, 3]])
+    poly_lot = polylots.PolyLot(FOUR, [1, 2], 1)
+    yield errors.BadThing, {"index": 1}, spacepolys.poly_of_space, FOUR, [1, 4, 5]
+    yield errors.BadPoints, {"index": 1}, spacepolys.check_points, FOUR, [0, 4]
+    yield errors.BadPoints, {"index": 1}, spacepolys.interpolated, FOUR, [0, 4], [9]
+    yield errors.NotApart, {"index": 1}, spacepolys.interpolated, FOUR, [3, 3], [9]
+    yield errors.BadWord, {"index": -1}, spacepolys.interpolated, FOUR, [3, 2], [9]
+    yield errors.BadPoly, {"index": 2}, maps.map_table, FOUR, [1, 2, 0]
+    yield errors.BadTable, {}, maps.poly_of_map, FOUR, [[1, 0]]
+    yield errors.BadPoly, {"index": 2}, maps.undone_poly, FOUR, [1, 2, 0]
+    yield errors.NotInvertible, {}, maps.undone_poly, FOUR, [1, 1]
+    yield errors.BadLot, {"what": "columns"}, lots.Lot, FOUR, 3, []
+    yield errors.BadLot, {"what": "many"}, lots.Lot, FOUR, 2, [[9]] * 257
+    yield errors.BadLot, {"what": "word"}, lots.Lot, FOUR, 2, [[1, 2], [9, 9]]
+    yield errors.BadWord, {"index": 0}, lot.holds, [9, 9]
+    yield errors.BadDistance, {}, bounds.bound_of, FOUR, 2, 4
+    yield errors.BadDistance, {}, bounds.crowded_couple, lot, 4
+    yield errors.NotMet, {}, bounds.member_with_head, lot, [9, 9]
+    yield errors.BadClosed, {"what": "columns"}, closed.ClosedLot, FOUR, 3, None
+    yield errors.BadClosed, {"what": "many"}, closed.ClosedLot, FOUR, 2, [[9]] * 17
+    yield errors.BadClosed, {"what": "word"}, closed.ClosedLot, FOUR, 2, [[1, 2], [9, 9]]
+    yield errors.BadPoints, {"index": 0}, polylots.PolyLot, FOUR, [9, 9], 3
+    yield errors.NotApart, {"index": 0}, polylots.PolyLot, FOUR, [0, 0], 3
+    yield errors.BadTerms, {}, polylots.PolyLot, FOUR, [1, 2], 3
+    yield errors.BadPoly, {"index": -1}, poly_lot.word_for, [9, 9]
+    yield errors.BadWord, {"index": 0}, poly_lot.poly_for, [9, 9]
+    yield errors.NotMember, {}, poly_lot.poly_for, [1, 1]
+    yield errors.BadSizes, {"what": "prime"}, formulas.words_of_rank, 5, 13, 13, 14
+    yield errors.BadSizes, {"what": "degree"}, formulas.met_counts, 3, 13, 14, 15
 
 
 class RefusalsTest(Case):
@@ -69,6 +103,31 @@ class RefusalsTest(Case):
             self.refuses(errors.BadRow, {"index": 0}, spaces.echelon, 3, 1, [(number,)])
             self.refuses(errors.BadWord, {"index": 0}, tables.check_word, NINE, (number,))
             self.refuses(errors.BadPoly, {"index": 0}, polys.check_poly, NINE, (number, 1))
+
+    def test_numbers_of_lots_are_no_bools(self):
+        lot = lots.Lot(FOUR, 1, [[1], [2]])
+        for value in (True, False):
+            self.refuses(errors.BadLot, {"what": "columns"}, lots.Lot, FOUR, value, [[1]])
+            self.refuses(errors.BadLot, {"what": "word"}, lots.Lot, FOUR, 1, [[value]])
+            self.refuses(errors.BadClosed, {"what": "columns"}, closed.ClosedLot, FOUR, value, [])
+            self.refuses(errors.BadTerms, {}, polylots.PolyLot, FOUR, [1], value)
+            self.refuses(errors.BadDistance, {}, bounds.bound_of, FOUR, 1, value)
+            self.refuses(errors.BadDistance, {}, bounds.crowded_couple, lot, value)
+            self.refuses(errors.BadDistance, {}, formulas.met_counts, 2, 2, 1, value)
+            self.refuses(errors.BadSizes, {"what": "rank"}, formulas.words_of_rank, 2, 2, 1, value)
+
+    def test_lots_stay_as_they_are(self):
+        words = [[0, 0], [1, 2], [2, 3], [3, 1]]
+        lot, closed_lot = lots.Lot(FOUR, 2, words), closed.ClosedLot(FOUR, 2, words)
+        poly_lot = polylots.PolyLot(FOUR, [1, 2], 1)
+        before = [copy.deepcopy(vars(thing)) for thing in (lot, closed_lot, poly_lot)]
+        lots.distance_of(lot)
+        bounds.member_with_head(lot, [2])
+        closed.sum_lots(closed_lot, closed.rest_lot(closed_lot))
+        list(closed_lot.all_members())
+        poly_lot.as_lot()
+        self.refuses(errors.NotMember, {}, poly_lot.poly_for, [1, 1])
+        self.assertEqual([vars(thing) for thing in (lot, closed_lot, poly_lot)], before)
 
     def test_objects_stay_as_they_are(self):
         before = copy.deepcopy(vars(TWENTY_SEVEN))

@@ -29,6 +29,15 @@ FUNCTIONS = {
     "divisions": "divided_within(field, poly, divisor); divided_about(field, poly, divisor); "
                  "common_about(field, one, other); least_about(field, one, other); "
                  "common_parts(field, one, other)",
+    "spacepolys": "poly_of_space(field, things); interpolated(field, points, values); "
+                  "check_points(field, points)",
+    "maps": "map_table(field, poly); poly_of_map(field, table); undone_poly(field, poly)",
+    "lots": "distance_of(lot)",
+    "bounds": "bound_of(field, columns, distance); crowded_couple(lot, distance); is_met(lot); "
+              "member_with_head(lot, head)",
+    "closed": "sum_lots(one, other); meet_lots(one, other); rest_lot(lot)",
+    "formulas": "words_of_rank(prime, degree, columns, rank); "
+                "met_counts(prime, degree, columns, distance)",
 }
 
 CLASSES = {
@@ -36,6 +45,11 @@ CLASSES = {
         "plus(one, other); minus(one, other); negative(one); times(one, other); inverse(one); "
         "over(one, other); multiple(number, thing); stepped(thing, times); digits_of(thing); "
         "thing_of(digits)",
+    ("lots", "Lot(field, columns, members)"): "holds(word); all_members(); __len__(); __iter__()",
+    ("lots", "Apart(distance, couple)"): "",
+    ("closed", "ClosedLot(field, columns, words)"): "holds(word); all_members(); as_lot()",
+    ("polylots", "PolyLot(field, points, terms)"):
+        "word_for(poly); poly_for(word); holds(word); all_members(); as_lot(); as_closed()",
 }
 
 

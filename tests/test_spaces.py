@@ -192,6 +192,10 @@ class AllSpacesTest(Case):
         self.assertEqual(list(all_spaces(2, 4, 0)), [()])
         self.assertEqual(list(all_spaces(2, 2, 2)), [((1, 0), (0, 1))])
 
+    def test_dimensions_that_no_space_has(self):
+        for dimension in (-2, -1, 3, 4):
+            self.assertEqual(list(all_spaces(2, 2, dimension)), [])
+
 
 class RefusedRowsTest(Case):
     ONE = (echelon, row_rank, contrary, rows_of_space)
