@@ -8,7 +8,8 @@ _MOST_DEGREE = 12
 _MOST_COLUMNS = 12
 
 
-def _check_sizes(prime, degree, columns, most_columns=_MOST_COLUMNS):
+def check_sizes(prime, degree, columns, most_columns=_MOST_COLUMNS):
+    """BadSizes for the first of the three numbers that is refused."""
     if not is_whole(prime, 2, 3):
         raise BadSizes("prime")
     if not is_whole(degree, 1, _MOST_DEGREE):
@@ -19,7 +20,7 @@ def _check_sizes(prime, degree, columns, most_columns=_MOST_COLUMNS):
 
 def words_of_rank(prime, degree, columns, rank):
     """How many words of so many columns have this rank."""
-    _check_sizes(prime, degree, columns)
+    check_sizes(prime, degree, columns)
     if not is_whole(rank, 0, columns):
         raise BadSizes("rank")
     return table_count(prime, degree, columns, rank)
@@ -39,7 +40,7 @@ def _met_count(prime, degree, columns, distance, rank):
 
 def met_counts(prime, degree, columns, distance):
     """How many members of each rank a met closed lot of this distance has."""
-    _check_sizes(prime, degree, columns, degree)
+    check_sizes(prime, degree, columns, degree)
     if not is_whole(distance, 1, columns + 1):
         raise BadDistance()
     counts = [1] + [0] * (distance - 1)

@@ -6,6 +6,11 @@ def is_whole(value, least, most):
     return isinstance(value, int) and not isinstance(value, bool) and least <= value <= most
 
 
+def is_count(value):
+    """Whether the value is an integer from 0, however great, and no bool."""
+    return isinstance(value, int) and not isinstance(value, bool) and value >= 0
+
+
 def is_sequence(value):
     """Whether the value is a list or a tuple."""
     return isinstance(value, (list, tuple))

@@ -7,19 +7,20 @@ from rankwords.kinds import first_beyond, is_sequence
 _MOST_THINGS = 16
 
 
-def _checked_row(prime, width, row, index):
-    if not is_sequence(row) or len(row) != width or first_beyond(row, prime) is not None:
+def _checked_row(limit, width, row, index):
+    if not is_sequence(row) or len(row) != width or first_beyond(row, limit) is not None:
         raise BadRow(index)
     return tuple(row)
 
 
-def _checked_rows(prime, width, rows):
+def checked_rows(limit, width, rows):
+    """The rows as a list of tuples; BadRow unless each has so many items from 0 to limit - 1."""
     if not is_sequence(rows):
         raise BadRow(-1)
-    return [_checked_row(prime, width, row, index) for index, row in enumerate(rows)]
+    return [_checked_row(limit, width, row, index) for index, row in enumerate(rows)]
 
 
-def _leading_place(row):
+def leading_place(row):
     """The first place that is not 0, or None."""
     for place, digit in enumerate(row):
         if digit:
@@ -44,7 +45,7 @@ def basis_of(prime, rows):
     basis = []
     for row in rows:
         row = _cleared(prime, basis, row)
-        lead = _leading_place(row)
+        lead = leading_place(row)
         if lead is not None:
             # Modulo 2 and modulo 3 a digit that is not 0 is its own inverse.
             row = tuple([row[lead] * digit % prime for digit in row])
@@ -53,15 +54,19 @@ def basis_of(prime, rows):
     return tuple([row for _, row in sorted(basis)])
 
 
+def left_of(prime, basis, row):
+    """The row less the one in the space of an echelon basis with its digits at the leading places."""
+    return _cleared(prime, [(leading_place(other), other) for other in basis], row)
+
+
 def lies_within(prime, basis, row):
     """Whether a row lies in the space of an echelon basis; nothing is checked."""
-    couples = [(_leading_place(other), other) for other in basis]
-    return not any(_cleared(prime, couples, row))
+    return not any(left_of(prime, basis, row))
 
 
 def contrary_of(prime, width, basis):
     """The basis of the contrary of an echelon basis, which is not checked."""
-    leads = [_leading_place(row) for row in basis]
+    leads = [leading_place(row) for row in basis]
     found = []
     for place in range(width):
         if place not in leads:
@@ -71,6 +76,15 @@ def contrary_of(prime, width, basis):
                 row[lead] = -other[place] % prime
             found.append(tuple(row))
     return basis_of(prime, found)
+
+
+def contrary_table(prime, width, basis):
+    """The table whose columns are the basis of the contrary of an echelon basis.
+
+    A word times this table is 0 just if the rows of the word lie in the space of the basis.
+    """
+    columns = contrary_of(prime, width, basis)
+    return tuple([tuple([row[place] for row in columns]) for place in range(width)])
 
 
 def _sums_of(prime, width, basis):
@@ -84,7 +98,7 @@ def _sums_of(prime, width, basis):
 
 def echelon(prime, width, rows):
     """The echelon basis of the space of the rows."""
-    return basis_of(prime, _checked_rows(prime, width, rows))
+    return basis_of(prime, checked_rows(prime, width, rows))
 
 
 def row_rank(prime, width, rows):
@@ -99,8 +113,8 @@ def contrary(prime, width, rows):
 
 def sum_spaces(prime, width, one, other):
     """The echelon basis of all sums of a row of each space."""
-    first = _checked_rows(prime, width, one)
-    return basis_of(prime, first + _checked_rows(prime, width, other))
+    first = checked_rows(prime, width, one)
+    return basis_of(prime, first + checked_rows(prime, width, other))
 
 
 def meet_spaces(prime, width, one, other):
@@ -145,7 +159,7 @@ def _all_bases(prime, width, dimension):
              for basis in _all_bases(prime, width - 1, dimension)]
     for basis in _all_bases(prime, width - 1, dimension - 1):
         later = tuple([(0,) + row for row in basis])
-        leads = [_leading_place(row) for row in later]
+        leads = [leading_place(row) for row in later]
         found.extend([(row,) + later for row in _rows_led_by_one(prime, width, leads)])
     return found
 

@@ -5,7 +5,10 @@ import itertools
 import random
 import unittest
 
+from rankwords.closed import ClosedLot
 from rankwords.fields import Field
+from rankwords.lots import Lot
+from rankwords.polylots import PolyLot
 
 KINDS = (
     (2, (0, 1)), (2, (1, 1)), (2, (1, 1, 1)), (2, (1, 1, 0, 1)),
@@ -20,6 +23,8 @@ SIXTEEN = Field(2, (1, 1, 0, 0, 1))
 NINE = Field(3, (1, 0, 1))
 TWENTY_SEVEN = Field(3, (1, 2, 0, 1))
 
+KEPT_RANKS = {}
+
 NO_INTEGERS = (True, False, 1.0, "1", b"1", None, (1,), [1], {1: 1}, 1j)
 NO_SEQUENCES = ("12", b"\x01", {1, 2}, {1: 2}, 5, None, range(2), True, 1.5)
 
@@ -32,9 +37,11 @@ def as_lists(value):
 
 
 def made_of_tuples(value):
-    """Whether no list stands anywhere in the value."""
+    """Whether no list stands anywhere in the value, nor in the attributes of a result."""
     if isinstance(value, tuple):
         return all(made_of_tuples(item) for item in value)
+    if hasattr(value, "__dict__") and not isinstance(value, Field):
+        return all(made_of_tuples(item) for item in vars(value).values())
     return not isinstance(value, list)
 
 
@@ -63,6 +70,76 @@ def random_points(chance, field, columns):
             points.append(point)
             spanned = spanned_things(field, points)
     return tuple(points)
+
+
+def random_rows(chance, prime, width, most):
+    """0 to most rows of digits."""
+    return tuple(tuple(chance.randrange(prime) for _ in range(width))
+                 for _ in range(chance.randrange(most + 1)))
+
+
+def random_invertible(chance, prime, width):
+    """A table whose rows are independent."""
+    while True:
+        table = tuple(tuple(chance.randrange(prime) for _ in range(width)) for _ in range(width))
+        if len(spanned_rows(prime, width, table)) == prime ** width:
+            return table
+
+
+def random_closed(chance, field, columns, most):
+    """A closed lot that is spanned by 0 to most words."""
+    many = chance.randrange(most + 1)
+    return ClosedLot(field, columns, [random_word(chance, field, columns) for _ in range(many)])
+
+
+def random_lot(chance, field, columns, most):
+    """A lot of 1 to most words, most of them not closed."""
+    many = chance.randrange(1, most + 1)
+    return Lot(field, columns, [random_word(chance, field, columns) for _ in range(many)])
+
+
+def closed_samples(seed, most=5, many=3, fields=None):
+    """Random closed lots of every number of columns over all fields."""
+    chance = rng(seed)
+    for field in fields or FIELDS:
+        for columns in range(1, field.degree + 1):
+            for _ in range(many):
+                yield random_closed(chance, field, columns, most)
+
+
+def lot_samples(seed, most=12, many=3, fields=None):
+    """Random lots of every number of columns over all fields."""
+    chance = rng(seed)
+    for field in fields or FIELDS:
+        for columns in range(1, field.degree + 1):
+            for _ in range(many):
+                yield random_lot(chance, field, columns, most)
+
+
+def poly_lots(seed, many=1, fields=None):
+    """Poly lots of every number of columns and of terms over all fields."""
+    chance = rng(seed)
+    for field in fields or FIELDS:
+        for columns in range(1, field.degree + 1):
+            for terms in range(1, columns + 1):
+                for _ in range(many):
+                    yield PolyLot(field, random_points(chance, field, columns), terms)
+
+
+def members_of(closed):
+    """All members of a closed lot of any size, from its basis."""
+    field, columns = closed.field, closed.columns
+    found = [(0,) * columns]
+    for word in closed.basis:
+        multiples = [tuple(field.multiple(c, x) for x in word) for c in range(field.prime)]
+        found = [tuple(map(field.plus, old, part)) for old in found for part in multiples]
+    return found
+
+
+def tally(ranks, columns):
+    """How many of the ranks are 0, 1, .. columns."""
+    ranks = list(ranks)
+    return tuple(ranks.count(rank) for rank in range(columns + 1))
 
 
 def all_words(field, columns):
@@ -109,8 +186,20 @@ def slow_rank(field, word):
     return rank
 
 
+def slow_ranks(field, columns):
+    """The ranks of all words of so many columns, kept as they are asked for often."""
+    key = field.prime, field.modulus, columns
+    if key not in KEPT_RANKS:
+        KEPT_RANKS[key] = {word: slow_rank(field, word) for word in all_words(field, columns)}
+    return KEPT_RANKS[key]
+
+
+def slow_less(field, one, other):
+    return tuple(field.minus(a, b) for a, b in zip(one, other))
+
+
 def slow_distance(field, one, other):
-    return slow_rank(field, [field.minus(a, b) for a, b in zip(one, other)])
+    return slow_rank(field, slow_less(field, one, other))
 
 
 def slow_power(field, thing, exponent):

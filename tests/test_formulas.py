@@ -9,15 +9,10 @@ from rankwords.lots import Lot
 from rankwords.polylots import PolyLot
 from rankwords.tables import word_sum
 from tests.support import (Case, EIGHT, FIELDS, NINE, NO_INTEGERS, all_words, random_points,
-                           random_word, rng, slow_distance, slow_rank)
+                           random_word, rng, slow_distance, slow_rank, tally)
 
 SIZES = [(prime, degree, columns)
          for prime in (2, 3) for degree in range(1, 13) for columns in range(1, 13)]
-
-
-def counts(ranks, columns):
-    ranks = list(ranks)
-    return tuple(ranks.count(rank) for rank in range(columns + 1))
 
 
 class WordsOfRankTest(Case):
@@ -25,8 +20,8 @@ class WordsOfRankTest(Case):
         for field in FIELDS:
             for columns in range(1, 6):
                 if field.size ** columns <= 1100:
-                    found = counts([slow_rank(field, word) for word in all_words(field, columns)],
-                                   columns)
+                    found = tally([slow_rank(field, word) for word in all_words(field, columns)],
+                                  columns)
                     told = tuple(words_of_rank(field.prime, field.degree, columns, rank)
                                  for rank in range(columns + 1))
                     self.assertEqual(told, found)
@@ -91,13 +86,13 @@ class MetCountsTest(Case):
                     told = met_counts(field.prime, field.degree, columns, lot.distance)
                     self.assertIs(type(told), tuple)
                     words = list(lot.all_members())
-                    self.assertEqual(counts([slow_rank(field, word) for word in words], columns),
-                                     told)
+                    self.assertEqual(tally([slow_rank(field, word) for word in words], columns),
+                                    told)
                     word = random_word(chance, field, columns)
                     other = Lot(field, columns, [word_sum(field, word, member) for member in words])
                     for one in other.members[::11]:
                         ranks = [slow_distance(field, one, member) for member in other]
-                        self.assertEqual(counts(ranks, columns), told)
+                        self.assertEqual(tally(ranks, columns), told)
 
     def test_all_sizes(self):
         for prime, degree, columns in SIZES:
@@ -137,10 +132,10 @@ class HeadOfThePartTest(Case):
     def test_counts_of_lots(self):
         """The counts of a lot tell how many members have each rank."""
         lot = PolyLot(EIGHT, (1, 2, 4), 1)
-        self.assertEqual(counts([slow_rank(EIGHT, word) for word in lot.all_members()], 3),
+        self.assertEqual(tally([slow_rank(EIGHT, word) for word in lot.all_members()], 3),
                          met_counts(2, 3, 3, lot.distance))
         lot = PolyLot(NINE, (1, 3), 2)
-        self.assertEqual(counts([slow_rank(NINE, word) for word in lot.all_members()], 2),
+        self.assertEqual(tally([slow_rank(NINE, word) for word in lot.all_members()], 2),
                          met_counts(3, 2, 2, lot.distance))
 
 

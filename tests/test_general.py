@@ -3,9 +3,10 @@
 import copy
 import unittest
 
-from rankwords import (bounds, closed, divisions, errors, fields, formulas, lots, maps, polylots,
-                       polys, spacepolys, spaces, tables)
-from tests.support import Case, FOUR, NINE, TWENTY_SEVEN
+from rankwords import (bounds, closed, counts, divisions, errors, evens, fields, formulas, keys,
+                       lots, maps, nearest, polylots, polys, reading, restcounts, spacepolys,
+                       spaces, tables, within)
+from tests.support import Case, EIGHT, FOUR, NINE, TWENTY_SEVEN
 
 BIG = 10 ** 60 - 1
 
@@ -74,6 +75,49 @@ def wrong_calls_with_lots():
     yield errors.NotMember, {}, poly_lot.poly_for, [1, 1]
     yield errors.BadSizes, {"what": "prime"}, formulas.words_of_rank, 5, 13, 13, 14
     yield errors.BadSizes, {"what": "degree"}, formulas.met_counts, 3, 13, 14, 15
+    yield from wrong_calls_with_counts()
+    yield from wrong_reads()
+
+
+def wrong_calls_with_counts():
+    good = [1, 0, 0, 7]
+    lot = closed.ClosedLot(EIGHT, 3, [[1, 2, 4]])
+    for function in (restcounts.rest_counts, restcounts.counts_fault, restcounts.completed_counts):
+        yield errors.BadSizes, {"what": "columns"}, function, 2, 3, 13, 0, [9]
+        yield errors.BadSizes, {"what": "size"}, function, 2, 3, 3, 513, [9]
+    for function in (restcounts.rest_counts, restcounts.completed_counts):
+        yield errors.BadCounts, {"what": "first"}, function, 2, 3, 3, 8, [2, 2, 2, 2]
+    yield errors.BadCounts, {"what": "row"}, restcounts.rest_counts, 2, 3, 3, 8, [9]
+    yield errors.NoLot, {"rank": 2}, restcounts.rest_counts, 2, 2, 2, 8, [1, 7, 0]
+    yield errors.NoLot, {"rank": 1}, restcounts.completed_counts, 2, 3, 3, 8, [1]
+    yield errors.BadCounts, {"what": "first"}, restcounts.turned_counts, 2, 3, 3, [0, 1, 0, 0]
+    sides = restcounts.identity_sides
+    yield errors.BadSizes, {"what": "size"}, sides, 2, 3, 3, 9, [9], [9], 9
+    yield errors.BadCounts, {"what": "row"}, sides, 2, 3, 3, 8, [9], [9], 9
+    yield errors.BadCounts, {"what": "others"}, sides, 2, 3, 3, 8, good, [9], 9
+    yield errors.BadSizes, {"what": "part"}, sides, 2, 3, 3, 8, good, good, 9
+    yield errors.BadRow, {"index": 1}, within.members_within, lot, [[1, 0, 0], [2, 0, 0], [3]]
+    yield errors.BadRow, {"index": 1}, within.members_bearing, lot, [[1, 0, 0], [2, 0, 0], [3]]
+    yield errors.BadThing, {"index": 1}, within.things_within, lot, [1, 8, 9]
+    yield errors.BadSizes, {"what": "part"}, evens.uneven_space, lot.as_lot(), 4
+
+
+def wrong_reads():
+    lot = polylots.PolyLot(EIGHT, [1, 2, 4], 1)
+    great = polylots.PolyLot(EIGHT, [1, 2, 4], 3)
+    yield errors.BadRow, {"index": 1}, keys.reduced_things, EIGHT, 2, [[1, 7], [1, 8], [9, 9]]
+    yield errors.BadRow, {"index": 1}, keys.solutions_basis, EIGHT, 2, [[1, 7], [1, 8], [9, 9]]
+    for function in (keys.key_rows, keys.key_basis, keys.key_couple):
+        yield errors.BadWord, {"index": 1}, function, lot, [1, 8, 9], 9
+        yield errors.BadErrors, {}, function, lot, [1, 2, 3], 3
+    yield errors.BadWord, {"index": 1}, reading.read_word, lot, [1, 8, 9]
+    yield errors.BadWord, {"index": 1}, reading.read_fault, lot, [1, 8, 9], reading.Far(0)
+    for function in (nearest.nearest_members, nearest.members_around):
+        more = [9] if function == nearest.members_around else []
+        yield errors.TooMany, {"size": 512}, function, great, [8, 9], *more
+        yield errors.BadWord, {"index": 1}, function, lot, [1, 8, 9], *more
+    yield errors.BadErrors, {}, nearest.members_around, lot, [1, 2, 3], 4
+    yield errors.TooMany, {"size": 512}, nearest.reach_row, great
 
 
 class RefusalsTest(Case):
@@ -115,6 +159,11 @@ class RefusalsTest(Case):
             self.refuses(errors.BadDistance, {}, bounds.crowded_couple, lot, value)
             self.refuses(errors.BadDistance, {}, formulas.met_counts, 2, 2, 1, value)
             self.refuses(errors.BadSizes, {"what": "rank"}, formulas.words_of_rank, 2, 2, 1, value)
+            self.refuses(errors.BadSizes, {"what": "size"}, restcounts.rest_counts, 2, 2, 1, value, ())
+            self.refuses(errors.BadCounts, {"what": "row"}, restcounts.turned_counts, 2, 2, 1,
+                         (1, value))
+            self.refuses(errors.BadSizes, {"what": "part"}, evens.uneven_space, lot, value)
+            self.refuses(errors.BadErrors, {}, nearest.members_around, lot, (1,), value)
 
     def test_lots_stay_as_they_are(self):
         words = [[0, 0], [1, 2], [2, 3], [3, 1]]
@@ -122,6 +171,12 @@ class RefusalsTest(Case):
         poly_lot = polylots.PolyLot(FOUR, [1, 2], 1)
         before = [copy.deepcopy(vars(thing)) for thing in (lot, closed_lot, poly_lot)]
         lots.distance_of(lot)
+        counts.couple_counts(lot)
+        evens.even_heads(lot)
+        counts.rank_counts(closed_lot)
+        within.members_bearing(closed_lot, [[1, 0], [1, 1]])
+        reading.read_word(poly_lot, [1, 0])
+        nearest.reach_row(poly_lot)
         bounds.member_with_head(lot, [2])
         closed.sum_lots(closed_lot, closed.rest_lot(closed_lot))
         list(closed_lot.all_members())

@@ -38,6 +38,22 @@ FUNCTIONS = {
     "closed": "sum_lots(one, other); meet_lots(one, other); rest_lot(lot)",
     "formulas": "words_of_rank(prime, degree, columns, rank); "
                 "met_counts(prime, degree, columns, distance)",
+    "restcounts": "identity_sides(prime, degree, columns, size, counts, others, part); "
+                  "rest_counts(prime, degree, columns, size, counts); "
+                  "counts_fault(prime, degree, columns, size, counts); "
+                  "turned_counts(prime, degree, columns, couples); "
+                  "completed_counts(prime, degree, columns, size, first)",
+    "counts": "counts_of(lot); couple_counts(lot); least_members(lot); rank_counts(closed)",
+    "within": "members_within(closed, rows); things_within(closed, things); "
+              "members_bearing(closed, rows)",
+    "evens": "even_heads(lot); uneven_space(lot, heads)",
+    "keys": "reduced_things(field, width, rows); solutions_basis(field, width, rows); "
+            "key_rows(polylot, word, errors); key_basis(polylot, word, errors); "
+            "key_couple(polylot, word, errors)",
+    "reading": "read_word(polylot, word); read_fault(polylot, word, read); "
+               "read_count(polylot, *, most=None)",
+    "nearest": "nearest_members(lot, word); members_around(lot, word, rank); reach_row(lot); "
+               "far_word(polylot)",
 }
 
 CLASSES = {
@@ -50,6 +66,9 @@ CLASSES = {
     ("closed", "ClosedLot(field, columns, words)"): "holds(word); all_members(); as_lot()",
     ("polylots", "PolyLot(field, points, terms)"):
         "word_for(poly); poly_for(word); holds(word); all_members(); as_lot(); as_closed()",
+    ("reading", "Read(poly, word, error, rank)"): "",
+    ("reading", "Far(least)"): "",
+    ("nearest", "Nearest(rank, members)"): "",
 }
 
 
