@@ -86,14 +86,15 @@ def _lot_of_rows(lot, rows):
     return ClosedLot(lot.field, lot.columns, _words_of_rows(lot.field, rows))
 
 
-def _check_alike(one, other):
+def check_alike(one, other):
+    """Unlike unless both have one field and one number of columns."""
     if one.field != other.field or one.columns != other.columns:
         raise Unlike()
 
 
 def sum_lots(one, other):
     """The least closed lot that holds both."""
-    _check_alike(one, other)
+    check_alike(one, other)
     rows = sum_spaces(one.field.prime, _width_of(one),
                       _flat_rows(one.field, one.basis), _flat_rows(one.field, other.basis))
     return _lot_of_rows(one, rows)
@@ -101,7 +102,7 @@ def sum_lots(one, other):
 
 def meet_lots(one, other):
     """The closed lot of the common members."""
-    _check_alike(one, other)
+    check_alike(one, other)
     rows = meet_spaces(one.field.prime, _width_of(one),
                        _flat_rows(one.field, one.basis), _flat_rows(one.field, other.basis))
     return _lot_of_rows(one, rows)

@@ -3,7 +3,7 @@
 from rankwords.errors import BadErrors
 from rankwords.kinds import is_whole
 from rankwords.polywork import trimmed
-from rankwords.spaces import checked_rows, leading_place, unit_row
+from rankwords.spaces import checked_rows, leading_place, solving_rows
 from rankwords.tables import check_word, scaled_word, word_less
 
 
@@ -26,20 +26,6 @@ def _reduced(field, rows):
     return tuple([row for _, row in sorted(basis)])
 
 
-def _solutions(field, width, basis):
-    """The reduced basis of the rows whose products with each of a reduced basis sum to 0."""
-    leads = [leading_place(row) for row in basis]
-    found = []
-    for place in range(width):
-        if place not in leads:
-            # One free thing is 1; it forces the things at the leading places.
-            row = list(unit_row(width, place))
-            for lead, other in zip(leads, basis):
-                row[lead] = field.negative(other[place])
-            found.append(tuple(row))
-    return _reduced(field, found)
-
-
 def reduced_things(field, width, rows):
     """The reduced basis of all sums of multiples, by things, of the rows."""
     return _reduced(field, checked_rows(field.size, width, rows))
@@ -47,7 +33,8 @@ def reduced_things(field, width, rows):
 
 def solutions_basis(field, width, rows):
     """The reduced basis of all rows whose products with each of the rows sum to 0."""
-    return _solutions(field, width, reduced_things(field, width, rows))
+    basis = reduced_things(field, width, rows)
+    return _reduced(field, solving_rows(field.prime, width, basis))
 
 
 def _check_errors(polylot, errors):

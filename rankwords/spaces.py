@@ -64,18 +64,28 @@ def lies_within(prime, basis, row):
     return not any(left_of(prime, basis, row))
 
 
-def contrary_of(prime, width, basis):
-    """The basis of the contrary of an echelon basis, which is not checked."""
+def solving_rows(prime, width, basis):
+    """Rows that span all those whose products with each row of a basis sum to 0.
+
+    Each row of the basis leads with 1 at a place where the others have 0. It may be made of
+    digits or of things.
+    """
     leads = [leading_place(row) for row in basis]
     found = []
     for place in range(width):
         if place not in leads:
-            # One free digit is 1; it forces the digits at the leading places.
-            row = list(unit_row(width, place))
+            # One free item is less 1, as a digit and as a thing; so no other one needs a sign.
+            row = [0] * width
+            row[place] = prime - 1
             for lead, other in zip(leads, basis):
-                row[lead] = -other[place] % prime
+                row[lead] = other[place]
             found.append(tuple(row))
-    return basis_of(prime, found)
+    return found
+
+
+def contrary_of(prime, width, basis):
+    """The basis of the contrary of an echelon basis, which is not checked."""
+    return basis_of(prime, solving_rows(prime, width, basis))
 
 
 def contrary_table(prime, width, basis):

@@ -7,6 +7,7 @@ import unittest
 
 from rankwords.closed import ClosedLot
 from rankwords.fields import Field
+from rankwords.losses import Losses
 from rankwords.lots import Lot
 from rankwords.polylots import PolyLot
 
@@ -126,6 +127,32 @@ def poly_lots(seed, many=1, fields=None):
                     yield PolyLot(field, random_points(chance, field, columns), terms)
 
 
+def mixed_sum(chance, field, columns, rows, things):
+    """A random word whose rows are sums of the rows, or whose things are sums of the things."""
+    word = (0,) * columns
+    for row in rows:
+        thing = chance.randrange(field.size)
+        word = tuple(field.plus(old, field.multiple(digit, thing)) for old, digit in zip(word, row))
+    for thing in things:
+        row = [chance.randrange(field.prime) for _ in range(columns)]
+        word = tuple(field.plus(old, field.multiple(digit, thing)) for old, digit in zip(word, row))
+    return word
+
+
+def error_of_rank(chance, field, columns, rank):
+    """A random word of this rank."""
+    while True:
+        word = mixed_sum(chance, field, columns, (), random_word(chance, field, rank))
+        if slow_rank(field, word) == rank:
+            return word
+
+
+def random_losses(chance, field, columns):
+    """Losses of any numbers of rows and things."""
+    rows = random_rows(chance, field.prime, columns, columns + 1)
+    return Losses(field, columns, rows, random_word(chance, field, chance.randrange(field.degree + 2)))
+
+
 def members_of(closed):
     """All members of a closed lot of any size, from its basis."""
     field, columns = closed.field, closed.columns
@@ -224,6 +251,27 @@ def slow_sum(field, one, other):
     while terms and terms[-1] == 0:
         terms.pop()
     return tuple(terms)
+
+
+def slow_hidden(losses):
+    """The set of all words that the losses hide."""
+    field, columns = losses.field, losses.columns
+    units = [field.prime ** place for place in range(field.degree)]
+    found = set(itertools.product(spanned_things(field, losses.things), repeat=columns))
+    for row in losses.rows:
+        for unit in units:
+            # Further multiples come by the other units.
+            parts = [tuple(field.multiple(times * digit, unit) for digit in row)
+                     for times in range(field.prime)]
+            found = {tuple(map(field.plus, old, part)) for old in found for part in parts}
+    return found
+
+
+def slow_rest_rank(losses, word, hidden=None):
+    """The least rank of the word less a hidden one; all words must be few."""
+    ranks = slow_ranks(losses.field, losses.columns)
+    return min(ranks[slow_less(losses.field, word, part)]
+               for part in hidden or slow_hidden(losses))
 
 
 class Case(unittest.TestCase):

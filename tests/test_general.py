@@ -3,9 +3,10 @@
 import copy
 import unittest
 
-from rankwords import (bounds, closed, counts, divisions, errors, evens, fields, formulas, keys,
-                       lots, maps, nearest, polylots, polys, reading, restcounts, spacepolys,
-                       spaces, tables, within)
+from rankwords import (bounds, clashes, closed, counts, covers, divisions, errors, evens, fields,
+                       formulas, keys, lanes, losses, lostreads, lots, maps, middles, nearest,
+                       polylots, polys, reading, restcounts, spacepolys, spaces, stores, tables,
+                       within)
 from tests.support import Case, EIGHT, FOUR, NINE, TWENTY_SEVEN
 
 BIG = 10 ** 60 - 1
@@ -77,6 +78,8 @@ def wrong_calls_with_lots():
     yield errors.BadSizes, {"what": "degree"}, formulas.met_counts, 3, 13, 14, 15
     yield from wrong_calls_with_counts()
     yield from wrong_reads()
+    yield from wrong_calls_with_losses()
+    yield from wrong_calls_with_stores()
 
 
 def wrong_calls_with_counts():
@@ -118,6 +121,52 @@ def wrong_reads():
         yield errors.BadWord, {"index": 1}, function, lot, [1, 8, 9], *more
     yield errors.BadErrors, {}, nearest.members_around, lot, [1, 2, 3], 4
     yield errors.TooMany, {"size": 512}, nearest.reach_row, great
+
+
+def wrong_calls_with_losses():
+    lot = polylots.PolyLot(EIGHT, [1, 2, 4], 1)
+    great = polylots.PolyLot(EIGHT, [1, 2, 4], 3)
+    lost, other = losses.Losses(EIGHT, 3, [[1, 0, 0]], [3]), losses.Losses(FOUR, 1, [], [])
+    yield errors.BadWord, {"index": 1}, middles.rank_parts, EIGHT, [1, 8, 9]
+    for function in (middles.way_between, middles.middle_word):
+        yield errors.BadWord, {"index": 1}, function, EIGHT, [1, 8, 9], [9]
+        yield errors.BadWord, {"index": -1}, function, EIGHT, [1, 2, 3], [9]
+    yield errors.BadWord, {"index": -1}, middles.middle_fault, EIGHT, [1, 2], [9], [9, 9]
+    yield errors.BadWord, {"index": 0}, middles.middle_fault, EIGHT, [1, 2], [1, 2], [9, 9]
+    yield errors.BadWord, {"index": -1}, middles.all_between, EIGHT, [1, 2], [9], 9
+    yield errors.BadErrors, {}, middles.all_between, EIGHT, [1, 2], [1, 3], 2
+    yield errors.BadErrors, {}, middles.between_count, 2, 13, 14
+    yield errors.BadLoss, {"what": "columns"}, losses.Losses, EIGHT, 4, [[2]], [9]
+    yield errors.BadLoss, {"what": "rows"}, losses.Losses, EIGHT, 3, [[1, 1, 1], [2]], [9]
+    yield errors.BadLoss, {"what": "things"}, losses.Losses, EIGHT, 3, [[1, 1, 1]], [7, 8]
+    for function in (losses.rest_rank, losses.parts_of):
+        yield errors.BadWord, {"index": 1}, function, lost, [1, 8, 9]
+    yield errors.BadWord, {"index": 1}, losses.parts_fault, lost, [1, 8, 9], [[9]]
+    yield errors.Unlike, {}, losses.joined_losses, lost, other
+    yield errors.BadWord, {"index": 1}, lostreads.read_lost, lot, [1, 8, 9], other
+    yield errors.Unlike, {}, lostreads.read_lost, lot, [1, 2, 3], other
+    yield errors.TooMany, {"size": 512}, lostreads.nearest_lost, great, [1, 8, 9], other
+    yield errors.BadWord, {"index": 1}, lostreads.nearest_lost, lot, [1, 8, 9], other
+    yield errors.Unlike, {}, lostreads.nearest_lost, lot, [1, 2, 3], other
+    yield errors.Unlike, {}, lostreads.hidden_couple, great, other
+    yield errors.NoClash, {}, clashes.find_clash, lot, 1, 1, 1
+    yield errors.NoClash, {}, clashes.clash_fault, lot, 1, 1, 1, clashes.Clash([9], [9], [9], [9])
+
+
+def wrong_calls_with_stores():
+    store = stores.Store(polylots.PolyLot(EIGHT, [1, 2, 4], 1))
+    cover = covers.Cover((9,), (9,), ((9, 9),))
+    for function in (covers.check_cells, covers.lane_cover, covers.worst_change):
+        yield errors.BadCells, {"index": 1}, function, EIGHT, 2, [[0, 0], [0, 2], [9, 9]]
+    yield errors.BadCells, {"index": 1}, covers.cover_fault, EIGHT, 2, [[0, 0], [0, 2]], cover
+    yield errors.BadLane, {"what": "rows"}, lanes.lane_losses, EIGHT, 2, [0, 3], [9]
+    yield errors.BadLane, {"what": "places"}, lanes.lane_losses, EIGHT, 2, [0, 2], [0, 2]
+    yield errors.BadPoly, {"index": -1}, store.write, [9, 9]
+    yield errors.BadCells, {"index": 1}, store.spoil, [[0, 0, 1], [0, 0, 2], [9]]
+    for function in (store.spoilt_lanes, store.read_known, store.mend):
+        yield errors.BadLane, {"what": "rows"}, function, [0, 3], [9]
+        yield errors.BadLane, {"what": "places"}, function, [0, 2], [0, 3]
+    yield errors.TooSpoilt, {"lanes": 0}, store.mend, [0, 1, 2], [0]
 
 
 class RefusalsTest(Case):
@@ -164,6 +213,11 @@ class RefusalsTest(Case):
                          (1, value))
             self.refuses(errors.BadSizes, {"what": "part"}, evens.uneven_space, lot, value)
             self.refuses(errors.BadErrors, {}, nearest.members_around, lot, (1,), value)
+            self.refuses(errors.BadErrors, {}, middles.between_count, 2, 1, value)
+            self.refuses(errors.BadErrors, {}, middles.all_between, FOUR, (1,), (2,), value)
+            self.refuses(errors.BadLoss, {"what": "rows"}, losses.Losses, FOUR, 1, [(value,)], ())
+            self.refuses(errors.BadCells, {"index": 0}, covers.check_cells, FOUR, 2, [(value, 0)])
+            self.refuses(errors.BadLane, {"what": "places"}, lanes.lane_losses, FOUR, 2, (), [value])
 
     def test_lots_stay_as_they_are(self):
         words = [[0, 0], [1, 2], [2, 3], [3, 1]]
@@ -183,6 +237,23 @@ class RefusalsTest(Case):
         poly_lot.as_lot()
         self.refuses(errors.NotMember, {}, poly_lot.poly_for, [1, 1])
         self.assertEqual([vars(thing) for thing in (lot, closed_lot, poly_lot)], before)
+
+    def test_losses_and_lots_stay_as_they_are(self):
+        poly_lot = polylots.PolyLot(EIGHT, [1, 2, 4], 1)
+        lost = losses.Losses(EIGHT, 3, [[1, 1, 0]], [6])
+        clash = clashes.find_clash(poly_lot, 1, 2, 0)
+        before = [copy.deepcopy(vars(thing)) for thing in (poly_lot, lost, clash)]
+        losses.joined_losses(lost, clash.losses)
+        losses.parts_of(lost, [1, 2, 3])
+        lostreads.read_lost(poly_lot, [1, 2, 3], lost)
+        lostreads.nearest_lost(poly_lot, [1, 2, 3], lost)
+        lostreads.hidden_couple(poly_lot, lost)
+        clashes.clash_fault(poly_lot, 1, 2, 0, clash)
+        store = stores.Store(poly_lot)
+        store.write([3])
+        store.spoil([[0, 0, 0]])
+        store.mend()
+        self.assertEqual([vars(thing) for thing in (poly_lot, lost, clash)], before)
 
     def test_objects_stay_as_they_are(self):
         before = copy.deepcopy(vars(TWENTY_SEVEN))

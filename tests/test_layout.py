@@ -54,6 +54,18 @@ FUNCTIONS = {
                "read_count(polylot, *, most=None)",
     "nearest": "nearest_members(lot, word); members_around(lot, word, rank); reach_row(lot); "
                "far_word(polylot)",
+    "middles": "rank_parts(field, word); way_between(field, one, other); "
+               "middle_word(field, one, other); middle_fault(field, one, other, word); "
+               "between_count(prime, rank, first); all_between(field, one, other, first)",
+    "losses": "rest_rank(losses, word); rest_rank_count(losses, rank); parts_of(losses, error); "
+              "parts_fault(losses, error, parts); joined_losses(one, other)",
+    "lostreads": "read_lost(polylot, word, losses); nearest_lost(polylot, word, losses); "
+                 "hidden_couple(polylot, losses)",
+    "clashes": "find_clash(polylot, rows, things, errors); "
+               "clash_fault(polylot, rows, things, errors, clash)",
+    "covers": "check_cells(field, columns, cells); lane_cover(field, columns, cells); "
+              "cover_fault(field, columns, cells, cover); worst_change(field, columns, cells)",
+    "lanes": "lane_losses(field, columns, rows, places)",
 }
 
 CLASSES = {
@@ -69,12 +81,21 @@ CLASSES = {
     ("reading", "Read(poly, word, error, rank)"): "",
     ("reading", "Far(least)"): "",
     ("nearest", "Nearest(rank, members)"): "",
+    ("losses", "Losses(field, columns, rows, things)"): "",
+    ("clashes", "Clash(one, other, word, losses)"): "",
+    ("covers", "Cover(rows, columns, apart)"): "",
+    ("stores", "Store(polylot)"):
+        "write(poly); spoil(deeds); spoilt_cells(); spoilt_lanes(rows=(), places=()); read_plain(); "
+        "read_known(rows, places); mend(rows=(), places=())",
 }
+
+PROPERTIES = {"Losses": ("many",), "Store": ("written", "shown")}
+NOT_COMPARED = ("Store",)
 
 
 def parts_of(text):
     """Couples of a name and a text of parameters."""
-    return [part.rstrip(")").split("(") for part in text.split("; ")] if text else []
+    return [part[:-1].split("(", 1) for part in text.split("; ")] if text else []
 
 
 def parameters(function):
@@ -99,7 +120,9 @@ class LayoutTest(unittest.TestCase):
             self.assertTrue(inspect.isclass(found), word)
             self.assertEqual(found.__module__, module.__name__, word)
             self.assertEqual(parameters(found), told, word)
-            self.assertIn("__eq__", vars(found), word)
+            self.assertEqual("__eq__" in vars(found), word not in NOT_COMPARED, word)
+            for name in PROPERTIES.get(word, ()):
+                self.assertIsInstance(vars(found)[name], property, name)
             for method, also in parts_of(methods):
                 inside = vars(found)[method]
                 self.assertTrue(inspect.isfunction(inside), method)

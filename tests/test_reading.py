@@ -7,8 +7,8 @@ from rankwords.nearest import far_word
 from rankwords.polylots import PolyLot
 from rankwords.reading import Far, Read, read_count, read_fault, read_word
 from tests.support import (Case, EIGHT, FIELDS, FOUR, NINE, NO_INTEGERS, NO_SEQUENCES, SIXTEEN,
-                           TWENTY_SEVEN, all_words, poly_lots, random_poly, random_points,
-                           random_word, rng, slow_distance, slow_less, slow_rank, slow_ranks,
+                           TWENTY_SEVEN, all_words, error_of_rank, poly_lots, random_poly,
+                           random_points, random_word, rng, slow_distance, slow_less, slow_ranks,
                            slow_value)
 
 LOT = PolyLot(EIGHT, (1, 2, 4), 1)
@@ -26,19 +26,6 @@ def slow_read(polylot, word):
     if 2 * rank >= polylot.distance:
         return Far(rank)
     return Read(polylot.poly_for(member), member, slow_less(field, word, member), rank)
-
-
-def error_of_rank(chance, field, columns, rank):
-    """A word of this rank."""
-    while True:
-        parts = [random_word(chance, field, 1) * columns for _ in range(rank)]
-        word = (0,) * columns
-        for part in parts:
-            digits = [chance.randrange(field.prime) for _ in range(columns)]
-            scaled = [field.multiple(digit, thing) for digit, thing in zip(digits, part)]
-            word = tuple(map(field.plus, word, scaled))
-        if slow_rank(field, word) == rank:
-            return word
 
 
 class ResultsTest(Case):
