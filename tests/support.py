@@ -6,6 +6,7 @@ import random
 import unittest
 
 from rankwords.closed import ClosedLot
+from rankwords.deeds import Net
 from rankwords.fields import Field
 from rankwords.losses import Losses
 from rankwords.lots import Lot
@@ -153,6 +154,43 @@ def random_losses(chance, field, columns):
     return Losses(field, columns, rows, random_word(chance, field, chance.randrange(field.degree + 2)))
 
 
+def random_packets(chance, field, columns, most):
+    """0 to most rows of a front of so many places and an end."""
+    return random_rows(chance, field.prime, columns + field.degree, most)
+
+
+def random_deed(chance, field, columns, standing):
+    """A deed that can be done where so many rows stand."""
+    words = ["mix"] + ["drop"] * (standing > 0) + ["copy"] * (0 < standing < 8)
+    words += ["false", "false"] * (standing < 8)
+    word = chance.choice(words)
+    if word == "mix":
+        many = chance.choice((standing, standing, chance.randrange(9)))
+        return word, tuple(tuple(chance.randrange(field.prime) for _ in range(standing))
+                           for _ in range(many))
+    if word == "false":
+        return word, tuple(chance.randrange(field.prime) for _ in range(columns + field.degree))
+    return word, chance.randrange(standing)
+
+
+def random_net(chance, field, columns, coming, most):
+    """A net of 0 to most deeds."""
+    net = Net(field, columns, coming, ())
+    for _ in range(chance.randrange(most + 1)):
+        deed = random_deed(chance, field, columns, net.arriving)
+        net = Net(field, columns, coming, net.deeds + (deed,))
+    return net
+
+
+def dimension_of(prime, many):
+    """The dimension of a space of so many rows."""
+    dimension = 0
+    while prime ** dimension < many:
+        dimension += 1
+    assert prime ** dimension == many
+    return dimension
+
+
 def members_of(closed):
     """All members of a closed lot of any size, from its basis."""
     field, columns = closed.field, closed.columns
@@ -206,11 +244,7 @@ def spanned_things(field, things):
 
 def slow_rank(field, word):
     """The rank of a word, from the number of things that its things span."""
-    many, rank = len(spanned_things(field, word)), 0
-    while field.prime ** rank < many:
-        rank += 1
-    assert field.prime ** rank == many
-    return rank
+    return dimension_of(field.prime, len(spanned_things(field, word)))
 
 
 def slow_ranks(field, columns):

@@ -3,10 +3,10 @@
 import copy
 import unittest
 
-from rankwords import (bounds, clashes, closed, counts, covers, divisions, errors, evens, fields,
-                       formulas, keys, lanes, losses, lostreads, lots, maps, middles, nearest,
-                       polylots, polys, reading, restcounts, spacepolys, spaces, stores, tables,
-                       within)
+from rankwords import (backs, bounds, clashes, closed, counts, covers, deeds, divisions, errors,
+                       evens, fields, formulas, joined, keys, lanes, likes, losses, lostreads, lots,
+                       maps, middles, nearest, packets, polylots, polys, reading, received,
+                       restcounts, sent, spacepolys, spaces, stores, tables, within)
 from tests.support import Case, EIGHT, FOUR, NINE, TWENTY_SEVEN
 
 BIG = 10 ** 60 - 1
@@ -80,6 +80,8 @@ def wrong_calls_with_lots():
     yield from wrong_reads()
     yield from wrong_calls_with_losses()
     yield from wrong_calls_with_stores()
+    yield from wrong_calls_with_nets()
+    yield from wrong_calls_with_joined_lots()
 
 
 def wrong_calls_with_counts():
@@ -169,6 +171,51 @@ def wrong_calls_with_stores():
     yield errors.TooSpoilt, {"lanes": 0}, store.mend, [0, 1, 2], [0]
 
 
+def wrong_calls_with_nets():
+    lot = polylots.PolyLot(EIGHT, [1, 2], 1)
+    good, bad = [0, 0, 1, 0, 0], [0, 0, 1, 0, 2]
+    net = deeds.Net(EIGHT, 2, 2, [["drop", 0]])
+    yield errors.BadColumns, {}, packets.check_rows, EIGHT, 4, [bad]
+    yield errors.BadRows, {"index": 1}, packets.check_rows, EIGHT, 2, [good, bad, [9]]
+    yield errors.BadWord, {"index": 1}, packets.packets_of, EIGHT, [1, 8, 9]
+    yield errors.BadColumns, {}, packets.rows_distance, EIGHT, 4, [bad], [bad]
+    yield errors.BadRows, {"index": 1}, packets.rows_distance, EIGHT, 2, [good, bad], [bad]
+    yield errors.BadColumns, {}, deeds.Net, EIGHT, 4, 9, [[9]]
+    yield errors.BadComing, {}, deeds.Net, EIGHT, 2, 9, [[9]]
+    yield errors.BadDeed, {"index": 1, "what": "row"}, deeds.Net, EIGHT, 2, 1, [["drop", 0],
+                                                                               ["false", bad], [9]]
+    yield errors.BadRows, {"index": -1}, deeds.run_net, net, [bad]
+    yield errors.BadRows, {"index": 1}, deeds.run_net, net, [good, bad]
+    yield errors.NotBehind, {}, deeds.net_behind, net, net
+    yield errors.BadWord, {"index": 1}, received.received_rows, losses.Losses(EIGHT, 2, [], []), [1, 8]
+    yield errors.BadColumns, {}, received.received_form, EIGHT, 4, [bad]
+    yield errors.BadRows, {"index": 1}, received.received_form, EIGHT, 2, [good, bad]
+    for function in (received.parting_of, received.net_for, received.net_fault):
+        more = [net] if function == received.net_fault else []
+        yield errors.BadWord, {"index": 1}, function, EIGHT, [1, 8], [bad], *more
+        yield errors.BadRows, {"index": 1}, function, EIGHT, [1, 2], [good, bad], *more
+    yield errors.BadRows, {"index": 1}, sent.read_rows, lot, [good, bad, [9]]
+    yield errors.BadRows, {"index": 1}, sent.nearest_sent, lot.as_lot(), [good, bad, [9]]
+
+
+def wrong_calls_with_joined_lots():
+    lot, other = closed.ClosedLot(EIGHT, 2, [[1, 2]]), closed.ClosedLot(FOUR, 2, [])
+    poly_lot = polylots.PolyLot(EIGHT, [1, 2], 1)
+    yield errors.Unlike, {}, joined.side_by_side, lot, other
+    yield errors.NoColumn, {}, joined.side_by_side, lot, lot
+    for function, first in ((joined.struck, lot), (joined.shortened, lot),
+                            (likes.struck_points, poly_lot), (likes.shortened_points, poly_lot)):
+        yield errors.NoColumn, {}, function, first, 2
+    for function, first in ((joined.mixed, lot), (likes.mixed_points, poly_lot)):
+        yield errors.BadTable, {}, function, first, [[0, 0], [0, 2]]
+        yield errors.NotInvertible, {}, function, first, [[1, 1], [1, 1]]
+    yield errors.BadTerms, {}, likes.shortened_points, poly_lot, 1
+    yield errors.BadThing, {"index": 0}, likes.scaled_points, poly_lot, 8
+    yield errors.ZeroThing, {}, likes.scaled_points, poly_lot, 0
+    yield errors.BadNumber, {}, backs.meet_of_steps, lot, 9
+    yield errors.NotClosedByThings, {}, backs.points_of, lot
+
+
 class RefusalsTest(Case):
     def test_first_wrong_argument_and_nothing_changed(self):
         for error, told, function, *args in wrong_calls():
@@ -218,6 +265,10 @@ class RefusalsTest(Case):
             self.refuses(errors.BadLoss, {"what": "rows"}, losses.Losses, FOUR, 1, [(value,)], ())
             self.refuses(errors.BadCells, {"index": 0}, covers.check_cells, FOUR, 2, [(value, 0)])
             self.refuses(errors.BadLane, {"what": "places"}, lanes.lane_losses, FOUR, 2, (), [value])
+            self.refuses(errors.BadComing, {}, deeds.Net, FOUR, 2, value, ())
+            self.refuses(errors.BadRows, {"index": 0}, packets.check_rows, FOUR, 1, [(value, 0, 0)])
+            self.refuses(errors.NoColumn, {}, joined.struck, closed.ClosedLot(FOUR, 2, ()), value)
+            self.refuses(errors.BadNumber, {}, backs.meet_of_steps, closed.ClosedLot(FOUR, 2, ()), value)
 
     def test_lots_stay_as_they_are(self):
         words = [[0, 0], [1, 2], [2, 3], [3, 1]]
@@ -254,6 +305,21 @@ class RefusalsTest(Case):
         store.spoil([[0, 0, 0]])
         store.mend()
         self.assertEqual([vars(thing) for thing in (poly_lot, lost, clash)], before)
+
+    def test_nets_and_closed_lots_stay_as_they_are(self):
+        net = deeds.Net(EIGHT, 3, 3, [["drop", 0], ["false", [0, 0, 0, 1, 1, 0]], ["mix", [[1, 0, 1]]]])
+        lost, lot = losses.Losses(EIGHT, 3, [[1, 1, 0]], [6]), closed.ClosedLot(EIGHT, 3, [[1, 2, 4]])
+        before = [copy.deepcopy(vars(thing)) for thing in (net, lost, lot)]
+        rows = deeds.run_net(net, packets.packets_of(EIGHT, [1, 2, 4]))
+        deeds.taken_through(net)
+        deeds.net_behind(net, deeds.Net(EIGHT, 3, 1, [["copy", 0]]))
+        received.received_rows(lost, [1, 2, 3])
+        received.net_fault(EIGHT, [1, 2, 4], rows, net)
+        joined.side_by_side(joined.struck(joined.struck(lot, 0), 0), joined.shortened(lot, 2))
+        joined.mixed(lot, [[0, 1, 0], [1, 0, 0], [0, 1, 1]])
+        backs.meet_of_steps(lot, 3)
+        self.refuses(errors.NotClosedByThings, {}, backs.points_of, lot)
+        self.assertEqual([vars(thing) for thing in (net, lost, lot)], before)
 
     def test_objects_stay_as_they_are(self):
         before = copy.deepcopy(vars(TWENTY_SEVEN))

@@ -66,6 +66,19 @@ FUNCTIONS = {
     "covers": "check_cells(field, columns, cells); lane_cover(field, columns, cells); "
               "cover_fault(field, columns, cells, cover); worst_change(field, columns, cells)",
     "lanes": "lane_losses(field, columns, rows, places)",
+    "packets": "check_rows(field, columns, rows); packets_of(field, word); "
+               "rows_distance(field, columns, one, other)",
+    "deeds": "run_net(net, rows); taken_through(net); net_bound(net); net_behind(first, second)",
+    "received": "received_rows(losses, word); received_form(field, columns, rows); "
+                "parting_of(field, word, rows); net_for(field, word, rows); "
+                "net_fault(field, word, rows, net)",
+    "sent": "read_rows(polylot, rows); nearest_sent(lot, rows)",
+    "joined": "side_by_side(one, other); struck(closed, column); shortened(closed, column); "
+              "mixed(closed, table); stepped_lot(closed, times)",
+    "likes": "struck_points(polylot, column); shortened_points(polylot, column); "
+             "mixed_points(polylot, table); stepped_points(polylot, times); "
+             "scaled_points(polylot, thing); like_points(one, other); same_lot(one, other)",
+    "backs": "closed_by_things(closed); meet_of_steps(closed, many); points_of(closed)",
 }
 
 CLASSES = {
@@ -87,6 +100,9 @@ CLASSES = {
     ("stores", "Store(polylot)"):
         "write(poly); spoil(deeds); spoilt_cells(); spoilt_lanes(rows=(), places=()); read_plain(); "
         "read_known(rows, places); mend(rows=(), places=())",
+    ("deeds", "Net(field, columns, coming, deeds)"): "",
+    ("deeds", "Taken(table, false_rows)"): "",
+    ("received", "Received(word, losses)"): "",
 }
 
 PROPERTIES = {"Losses": ("many",), "Store": ("written", "shown")}
