@@ -182,6 +182,53 @@ def random_net(chance, field, columns, coming, most):
     return net
 
 
+def random_edit(chance, field, columns):
+    """An edit over the field; most can be made on a poly lot of so many columns."""
+    size = columns if chance.randrange(5) else chance.randrange(1, field.degree + 1)
+    return chance.choice((("point", chance.randrange(field.size)),
+                          ("strike", chance.randrange(size)),
+                          ("terms", chance.randrange(1, size + 1)),
+                          ("mix", random_invertible(chance, field.prime, size)),
+                          ("step", chance.randrange(field.degree))))
+
+
+def slow_edited(polylot, edit):
+    """The poly lot behind an edit, or None if it cannot be made, from its points alone."""
+    field, points, terms = polylot.field, polylot.points, polylot.terms
+    word, what = edit
+    if word == "point":
+        if what in spanned_things(field, points):
+            return None
+        points += (what,)
+    elif word == "strike":
+        if what >= len(points) or len(points) == 1:
+            return None
+        terms = min(terms, len(points) - 1)
+        points = points[:what] + points[what + 1:]
+    elif word == "terms":
+        terms = what
+        if terms > len(points):
+            return None
+    elif word == "mix":
+        if len(what) != len(points):
+            return None
+        points = slow_mixed(field, points, what)
+    else:
+        points = tuple(slow_power(field, point, field.prime ** what) for point in points)
+    return PolyLot(field, points, terms)
+
+
+def slow_mixed(field, word, table):
+    """The word times the table, thing by thing."""
+    result = []
+    for column in range(len(table[0])):
+        total = 0
+        for thing, row in zip(word, table):
+            total = field.plus(total, field.multiple(row[column], thing))
+        result.append(total)
+    return tuple(result)
+
+
 def dimension_of(prime, many):
     """The dimension of a space of so many rows."""
     dimension = 0

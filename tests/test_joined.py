@@ -13,8 +13,8 @@ from rankwords.restcounts import rest_counts
 from rankwords.within import members_within
 from tests.support import (Case, EIGHT, FIELDS, FOUR, NINE, NO_INTEGERS, NO_SEQUENCES, SIXTEEN, TWO,
                            TWENTY_SEVEN, all_words, closed_samples, members_of, poly_lots,
-                           random_closed, random_invertible, random_rows, rng, slow_power, slow_rank,
-                           spanned_rows, tally)
+                           random_closed, random_invertible, random_rows, rng, slow_mixed, slow_power,
+                           slow_rank, spanned_rows, tally)
 
 TWISTED = ((0, 1, 1), (1, 0, 1), (1, 1, 1))
 
@@ -75,16 +75,6 @@ def inverse(prime, table):
             tuple(int(at == spot) for at in range(size)) for spot in range(size)])
             if tuple(sum(a * b for a, b in zip(row, vector)) % prime for row in table) == unit]
     return turned(columns)
-
-
-def slow_mixed(field, word, table):
-    result = []
-    for column in range(len(table[0])):
-        total = 0
-        for thing, row in zip(word, table):
-            total = field.plus(total, field.multiple(row[column], thing))
-        result.append(total)
-    return tuple(result)
 
 
 class SideBySideTest(Case):

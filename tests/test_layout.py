@@ -79,6 +79,14 @@ FUNCTIONS = {
              "mixed_points(polylot, table); stepped_points(polylot, times); "
              "scaled_points(polylot, thing); like_points(one, other); same_lot(one, other)",
     "backs": "closed_by_things(closed); meet_of_steps(closed, many); points_of(closed)",
+    "datas": "number_of(polylot, poly); poly_of_number(polylot, number); poly_with_head(polylot, head)",
+    "edits": "check_edits(field, edits); lot_after(polylot, edits)",
+    "goals": "check_goals(field, goals); first_unmet(polylot, goals)",
+    "mends": "find_mends(polylot, pool, goals); find_spoilers(polylot, pool, goals)",
+    "bench": "try_edits(bench, edits, goals=())",
+    "fieldtext": "field_text(field); read_field(text); word_text(field, word); "
+                 "read_word_text(field, text)",
+    "lottext": "lot_text(lot); read_lot(text)",
 }
 
 CLASSES = {
@@ -103,10 +111,12 @@ CLASSES = {
     ("deeds", "Net(field, columns, coming, deeds)"): "",
     ("deeds", "Taken(table, false_rows)"): "",
     ("received", "Received(word, losses)"): "",
+    ("bench", "Bench(polylot)"): "make(edit); put_in(poly); read_in(word); take_back()",
 }
 
-PROPERTIES = {"Losses": ("many",), "Store": ("written", "shown")}
-NOT_COMPARED = ("Store",)
+PROPERTIES = {"Losses": ("many",), "Store": ("written", "shown"),
+              "Bench": ("current", "polys", "words", "log")}
+NOT_COMPARED = ("Store", "Bench")
 
 
 def parts_of(text):
