@@ -16,7 +16,8 @@ def _lots_behind(polylot, pool):
     level = [()]
     for _ in range(len(pool)):
         wider = []
-        for indexes in level:
+        # A copy is walked, because `level` and `wider` come to name one list below.
+        for indexes in list(level):
             start = indexes[-1] + 1 if indexes else 0
             for index in range(start, len(pool)):
                 # What cannot be made cannot be made with further edits behind it, either.
